@@ -1,0 +1,1 @@
+"""Lookvoice: a second voice with the least look-ahead."""
