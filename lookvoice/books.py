@@ -52,7 +52,7 @@ class Book:
         self._answers = {note: [] for note in self.given}
         self._marks = {}
         for rule in rules:
-            self._read(rule)
+            self.read(rule)
 
     @property
     def pairs(self):
@@ -84,6 +84,18 @@ class Book:
         pairs = [(note, answer) for answer in self.answers(note)]
         return [pair for pair in pairs if (*before, *pair) in self]
 
+    def read(self, rule):
+        """Reads one more rule while the book is being made, or raises the first error in it."""
+        if not is_well_formed(rule):
+            raise BadRule(rule)
+        if rule[0] == "pair":
+            self._read_pair(rule[1], rule[2])
+        else:
+            for pair in named_pairs(rule):
+                self._require_note(pair[0])
+                self._require_pair(pair)
+        self._marks.setdefault(rule, RuleMark())
+
     def hold(self, rule):
         """Holds a rule that is in force, and returns the mark by which it is released again."""
         if rule not in self:
@@ -102,17 +114,6 @@ class Book:
         if not all([note in other.given for note in self.given]):
             return False
         return all([rule in other for rule in self.rules])
-
-    def _read(self, rule):
-        if not is_well_formed(rule):
-            raise BadRule(rule)
-        if rule[0] == "pair":
-            self._read_pair(rule[1], rule[2])
-        else:
-            for pair in named_pairs(rule):
-                self._require_note(pair[0])
-                self._require_pair(pair)
-        self._marks[rule] = RuleMark()
 
     def _read_pair(self, note, answer):
         self._require_note(note)

@@ -7,7 +7,7 @@ import unittest
 import warnings
 
 import lookvoice
-from lookvoice import books, errors, holding
+from lookvoice import books, comparing, errors, holding, notation, relations, voices
 
 FOLDER = pathlib.Path(lookvoice.__file__).parent
 FILES = sorted(path for path in FOLDER.rglob("*") if path.is_file() and "__pycache__" not in path.parts)
@@ -65,32 +65,69 @@ class Language(unittest.TestCase):
             for decorator in node.decorator_list:
                 self.assertIn(ast.unparse(decorator), ("property", "staticmethod", "classmethod"))
 
+    def test_sorted_takes_plain_numbers(self):
+        # A book has an order and no equality, so only what is plainly a number may be compared.
+        for node in nodes(ast.Call):
+            self.assertNotEqual(getattr(node.func, "attr", None), "sort")
+            if getattr(node.func, "id", None) == "sorted":
+                self.assertIsInstance(node.args[0], ast.ListComp)
+                self.assertEqual(ast.unparse(node.args[0].elt.func), "int")
+
     def test_no_star_in_an_index(self):
         for node in nodes(ast.Subscript):
             self.assertFalse(any(isinstance(part, ast.Starred) for part in ast.walk(node.slice)), ast.unparse(node))
 
 
+FUNCTIONS = [
+    (holding, "without", ["book", "rules"]),
+    (notation, "parse_book", ["text"]),
+    (notation, "write_book", ["book"]),
+    (relations, "identity", ["size"]),
+    (voices, "behaviour", ["book", "voice"]),
+    (voices, "is_unbroken", ["book", "piece"]),
+    (voices, "answer", ["book", "voice"]),
+    (voices, "silent_voice", ["book"]),
+    (comparing, "parting", ["first", "second"]),
+    (comparing, "used_rules", ["book"]),
+    (comparing, "trimmed", ["book"]),
+    (comparing, "spare_rules", ["book"]),
+]
+
+CLASSES = [
+    (books, "Book", ["given", "rules"], ["pairs", "rules", "answers", "after", "__contains__", "__le__"]),
+    (holding, "Held", ["book", "rule"], ["__enter__", "__exit__"]),
+    (relations, "Relation", ["rows"], ["__or__", "__and__", "__mul__", "__contains__", "reach"]),
+]
+
+
+def arguments(called):
+    return list(inspect.signature(called).parameters)
+
+
 class Interface(unittest.TestCase):
-    def test_each_is_defined_in_its_file(self):
-        self.assertEqual(books.Book.__module__, "lookvoice.books")
-        self.assertEqual(holding.Held.__module__, "lookvoice.holding")
-        self.assertEqual(holding.without.__module__, "lookvoice.holding")
+    def test_functions(self):
+        for module, name, names in FUNCTIONS:
+            found = getattr(module, name)
+            self.assertTrue(inspect.isfunction(found), name)
+            self.assertEqual(found.__module__, module.__name__)
+            self.assertEqual(arguments(found), names)
 
-    def test_names_of_arguments(self):
-        expected = [
-            (books.Book, ["given", "rules"]), (holding.Held, ["book", "rule"]), (holding.without, ["book", "rules"]),
-            (books.Book.answers, ["self", "note"]), (books.Book.after, ["self", "last", "note"]),
-            (errors.BadName, ["name"]), (errors.Silent, ["voice"]),
-        ]
-        for called, names in expected:
-            self.assertEqual(list(inspect.signature(called).parameters), names)
+    def test_classes_and_methods_in_the_class_itself(self):
+        for module, name, names, methods in CLASSES:
+            found = getattr(module, name)
+            self.assertTrue(inspect.isclass(found), name)
+            self.assertEqual(found.__module__, module.__name__)
+            self.assertEqual(arguments(found), names)
+            for method in methods:
+                self.assertIn(method, vars(found))
+
+    def test_arguments_of_methods_and_errors(self):
+        self.assertEqual(arguments(books.Book.answers), ["self", "note"])
+        self.assertEqual(arguments(books.Book.after), ["self", "last", "note"])
+        self.assertEqual(arguments(relations.Relation.reach), ["self", "places"])
+        self.assertEqual(arguments(errors.BadName), ["name"])
+        self.assertEqual(arguments(errors.Silent), ["voice"])
         self.assertEqual(inspect.signature(books.Book).parameters["rules"].default, ())
-
-    def test_methods_stand_in_the_class_itself(self):
-        for name in ("pairs", "rules", "answers", "after", "__contains__", "__le__"):
-            self.assertIn(name, vars(books.Book))
-        for name in ("__enter__", "__exit__"):
-            self.assertIn(name, vars(holding.Held))
 
     def test_pairs_and_rules_are_properties(self):
         self.assertIsInstance(vars(books.Book)["pairs"], property)

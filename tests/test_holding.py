@@ -6,17 +6,7 @@ import unittest
 from lookvoice.books import Book
 from lookvoice.errors import BadRule, UnknownPair
 from lookvoice.holding import Held, without
-from samples import GIVEN, PAIRS, RULES, error_of, everything_of, sample_book
-
-
-def named_pairs(rule):
-    return [rule[1:3]] if len(rule) == 3 else [rule[1:3], rule[3:5]]
-
-
-def left(rules, held):
-    """The rules that are in force while others are held, worked out plainly."""
-    gone = [rule[1:] for rule in held if rule[0] == "pair"]
-    return [rule for rule in rules if rule not in held and not any(pair in gone for pair in named_pairs(rule))]
+from samples import GIVEN, PAIRS, RULES, error_of, everything_of, left, named_pairs, sample_book
 
 
 class Failure(Exception):
