@@ -11,10 +11,9 @@ def require_notes(book, voice):
             raise UnknownNote(note)
 
 
-def step_relation(book, lasts, note):
+def step_relation(book, numbers, note):
     """The relation that leads from each place to the pairs over the note that may follow it."""
-    numbers = {last: place for place, last in enumerate(lasts)}
-    return Relation([[numbers[pair] for pair in book.after(last, note)] for last in lasts])
+    return Relation([[numbers[pair] for pair in book.after(last, note)] for last in numbers])
 
 
 class Places:
@@ -22,9 +21,12 @@ class Places:
 
     def __init__(self, book):
         lasts = [None] + book.pairs
+        numbers = {last: place for place, last in enumerate(lasts)}
         self.size = len(lasts)
+        self.given = book.given
         self.lasts = lasts
-        self.steps = {note: step_relation(book, lasts, note) for note in book.given}
+        self.numbers = numbers
+        self.steps = {note: step_relation(book, numbers, note) for note in book.given}
         self._closed = {place: True for place, last in enumerate(lasts) if last is None or ("close", *last) in book}
 
     def follow(self, ends, note):

@@ -1,13 +1,16 @@
 """Point 1, the interface and some rules of the language: what the files of the package may look like."""
 
 import ast
+import builtins
 import inspect
 import pathlib
 import unittest
 import warnings
 
 import lookvoice
-from lookvoice import books, comparing, errors, holding, notation, relations, voices
+from lookvoice import (
+    books, comparing, errors, holding, notation, outlooks, playing, relations, verdicts, voices, windows,
+)
 
 FOLDER = pathlib.Path(lookvoice.__file__).parent
 FILES = sorted(path for path in FOLDER.rglob("*") if path.is_file() and "__pycache__" not in path.parts)
@@ -73,6 +76,42 @@ class Language(unittest.TestCase):
                 self.assertIsInstance(node.args[0], ast.ListComp)
                 self.assertEqual(ast.unparse(node.args[0].elt.func), "int")
 
+    def test_least_and_greatest_of_plain_numbers(self):
+        for node in nodes(ast.Call):
+            if getattr(node.func, "id", None) in ("min", "max") and len(node.args) == 1:
+                self.assertIsInstance(node.args[0], ast.ListComp)
+                self.assertEqual(ast.unparse(node.args[0].elt.func), "int")
+
+    def test_no_local_name_is_that_of_an_import_or_a_class(self):
+        for path in FILES:
+            tree = ast.parse(path.read_text(encoding="utf-8"))
+            taken = [node.name for node in tree.body if isinstance(node, ast.ClassDef)]
+            taken += [alias.name for node in tree.body if isinstance(node, ast.ImportFrom) for alias in node.names]
+            for node in ast.walk(tree):
+                if isinstance(node, ast.arg):
+                    self.assertNotIn(node.arg, taken, path)
+                if isinstance(node, ast.Name) and isinstance(node.ctx, ast.Store):
+                    self.assertNotIn(node.id, taken, path)
+
+    def test_no_name_is_that_of_a_builtin(self):
+        for path in FILES:
+            for node in ast.walk(ast.parse(path.read_text(encoding="utf-8"))):
+                if isinstance(node, ast.arg):
+                    self.assertFalse(hasattr(builtins, node.arg), node.arg)
+                if isinstance(node, ast.Name) and isinstance(node.ctx, ast.Store):
+                    self.assertFalse(hasattr(builtins, node.id), node.id)
+
+    def test_imports_in_one_direction(self):
+        found = {}
+        for path in FILES:
+            tree = ast.parse(path.read_text(encoding="utf-8"))
+            modules = [node.module for node in tree.body if isinstance(node, ast.ImportFrom)]
+            found[f"lookvoice.{path.stem}"] = [name for name in modules if name.startswith("lookvoice.")]
+        while found:
+            free = [name for name in found if not any(used in found for used in found[name])]
+            self.assertNotEqual(free, [])
+            found = {name: found[name] for name in found if name not in free}
+
     def test_no_star_in_an_index(self):
         for node in nodes(ast.Subscript):
             self.assertFalse(any(isinstance(part, ast.Starred) for part in ast.walk(node.slice)), ast.unparse(node))
@@ -91,12 +130,30 @@ FUNCTIONS = [
     (comparing, "used_rules", ["book"]),
     (comparing, "trimmed", ["book"]),
     (comparing, "spare_rules", ["book"]),
+    (windows, "settle", ["book", "ahead"]),
+    (outlooks, "outlook", ["book"]),
+    (playing, "play", ["giver", "answerer", "ahead", "limit"]),
+    (verdicts, "judge", ["book", "most"]),
+    (verdicts, "judge_without", ["book", "rules", "most"]),
 ]
 
 CLASSES = [
     (books, "Book", ["given", "rules"], ["pairs", "rules", "answers", "after", "__contains__", "__le__"]),
     (holding, "Held", ["book", "rule"], ["__enter__", "__exit__"]),
     (relations, "Relation", ["rows"], ["__or__", "__and__", "__mul__", "__contains__", "reach"]),
+    (playing, "Singer", ["voice"], ["__call__"]),
+]
+
+# What makes these is the program's own business.
+OTHER_CLASSES = [
+    (windows, "Hearing", []),
+    (windows, "TableAnswerer", ["__call__", "table"]),
+    (windows, "TableGiver", ["__call__"]),
+    (outlooks, "Outlook", []),
+    (outlooks, "BlockAnswerer", ["__call__", "safe"]),
+    (outlooks, "Rings", ["blocks", "moves", "against"]),
+    (outlooks, "RingGiver", ["__call__"]),
+    (verdicts, "Verdict", []),
 ]
 
 
@@ -121,7 +178,31 @@ class Interface(unittest.TestCase):
             for method in methods:
                 self.assertIn(method, vars(found))
 
+    def test_classes_that_are_not_made_by_callers(self):
+        for module, name, methods in OTHER_CLASSES:
+            found = getattr(module, name)
+            self.assertTrue(inspect.isclass(found), name)
+            self.assertEqual(found.__module__, module.__name__)
+            for method in methods:
+                self.assertIn(method, vars(found))
+
+    def test_arguments_that_are_passed_by_name_only(self):
+        for called, name, usual in ((windows.settle, "ahead", inspect.Parameter.empty),
+                                    (playing.play, "ahead", inspect.Parameter.empty), (playing.play, "limit", 60),
+                                    (verdicts.judge, "most", 3), (verdicts.judge_without, "most", 3)):
+            found = inspect.signature(called).parameters[name]
+            self.assertEqual((found.kind, found.default), (inspect.Parameter.KEYWORD_ONLY, usual))
+
+    def test_arguments_of_callable_objects(self):
+        for answerer in (windows.TableAnswerer, outlooks.BlockAnswerer):
+            self.assertEqual(arguments(answerer.__call__), ["self", "piece", "window"])
+        for giver in (windows.TableGiver, outlooks.RingGiver, playing.Singer):
+            self.assertEqual(arguments(giver.__call__), ["self", "piece", "voice"])
+
     def test_arguments_of_methods_and_errors(self):
+        self.assertEqual(arguments(windows.TableAnswerer.table), ["self"])
+        self.assertEqual(arguments(outlooks.BlockAnswerer.safe), ["self", "block"])
+        self.assertEqual(arguments(outlooks.Rings.against), ["self", "ahead"])
         self.assertEqual(arguments(books.Book.answers), ["self", "note"])
         self.assertEqual(arguments(books.Book.after), ["self", "last", "note"])
         self.assertEqual(arguments(relations.Relation.reach), ["self", "places"])
@@ -129,9 +210,13 @@ class Interface(unittest.TestCase):
         self.assertEqual(arguments(errors.Silent), ["voice"])
         self.assertEqual(inspect.signature(books.Book).parameters["rules"].default, ())
 
-    def test_pairs_and_rules_are_properties(self):
-        self.assertIsInstance(vars(books.Book)["pairs"], property)
-        self.assertIsInstance(vars(books.Book)["rules"], property)
+    def test_properties(self):
+        for found, name in ((books.Book, "pairs"), (books.Book, "rules"), (outlooks.Rings, "blocks"),
+                            (outlooks.Rings, "moves")):
+            self.assertIsInstance(vars(found)[name], property)
+
+    def test_playing_is_a_generator(self):
+        self.assertTrue(inspect.isgeneratorfunction(playing.play))
 
 
 if __name__ == "__main__":
