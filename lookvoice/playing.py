@@ -35,11 +35,12 @@ def play(giver, answerer, *, ahead, limit=60):
                 has_ended = True
             else:
                 voice.append(note)
-        at = len(piece)
-        if at == len(voice):
+        # No note has been asked for that the answerer must not hear yet.
+        window = voice[len(piece):]
+        if len(window) == 0:
             return
-        answer = answer_or_none(answerer, list(piece), voice[at:at + ahead + 1])
-        yield (voice[at], answer)
-        if answer is None:
+        pair = (window[0], answer_or_none(answerer, list(piece), list(window)))
+        yield pair
+        if pair[1] is None:
             return
-        piece.append((voice[at], answer))
+        piece.append(pair)

@@ -42,6 +42,12 @@ def last_note_book(given):
     return book_of(given, pairs, pairs, closes, [(one, two) for one in pairs for two in pairs if one[1] == two[1]])
 
 
+def changing_book():
+    """The last note's book, but an answer that names b over a may be followed by those that name a."""
+    book = last_note_book("ab")
+    return Book(book.given, book.rules + [("step", "a", "b", "a", "a"), ("step", "a", "b", "b", "a")])
+
+
 def countdown_book(most):
     """Each answer names the number of notes to come, or `most` for all from there on, which must be heard ahead."""
     pairs = [("a", str(many)) for many in range(most + 1)]
@@ -80,7 +86,7 @@ def named_books():
     return [
         Book([]), full_book("a", "x"), full_book("ab", "xy"), next_note_book("ab"), next_note_book("abc"),
         second_next_book(), repetition_book("ab"), repetition_book("abc"), last_note_book("a"), last_note_book("ab"),
-        last_note_book("abc"), countdown_book(2), countdown_book(3), distant_book(), segment_book(0), segment_book(1),
+        last_note_book("abc"), changing_book(), countdown_book(2), countdown_book(3), distant_book(), segment_book(0), segment_book(1),
     ]
 
 
@@ -121,7 +127,8 @@ def answered_games(source, many, most_given=3):
 
 def never_games(source, many):
     """Books by chance that answer every voice, but for which no look-ahead is enough."""
-    named = [repetition_book("abc"), last_note_book("ab"), last_note_book("abc"), segment_book(0), segment_book(1)]
+    named = [repetition_book("abc"), last_note_book("ab"), last_note_book("abc"), changing_book(), segment_book(0),
+             segment_book(1)]
     found = []
     while len(found) < many:
         book = perturbed(source, source.choice(named))

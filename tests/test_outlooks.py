@@ -5,8 +5,8 @@ import unittest
 from itertools import product
 
 from games import (
-    answered_games, chance_games, countdown_book, distant_book, has_closed_run, last_note_book, named_books,
-    next_note_book, places_of, plain_rows, repetition_book, second_next_book, segment_book,
+    answered_games, chance_games, changing_book, countdown_book, distant_book, has_closed_run, last_note_book,
+    named_books, next_note_book, places_of, plain_rows, repetition_book, second_next_book, segment_book,
 )
 from lookvoice.books import Book
 from lookvoice.comparing import trimmed
@@ -20,7 +20,8 @@ from samples import chance_book, error_of, everything_of, full_book, sample_book
 ENOUGH = [Book([]), full_book("a", "x"), full_book("ab", "xy"), full_book(), next_note_book("ab"),
           next_note_book("abc"), second_next_book(), repetition_book("ab"), last_note_book("a"), countdown_book(2),
           countdown_book(3), distant_book()]
-NEVER = [repetition_book("abc"), last_note_book("ab"), last_note_book("abc"), segment_book(0), segment_book(1)]
+NEVER = [repetition_book("abc"), last_note_book("ab"), last_note_book("abc"), changing_book(), segment_book(0),
+         segment_book(1)]
 
 
 def answered(answerer, voice):

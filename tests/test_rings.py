@@ -4,8 +4,8 @@ import random
 import unittest
 
 from games import (
-    has_closed_run, is_lost, last_note_book, never_games, next_note_book, perturbed, places_of, plain_rows, plays,
-    repetition_book, segment_book,
+    changing_book, has_closed_run, is_lost, last_note_book, never_games, next_note_book, perturbed, places_of,
+    plain_rows, plays, repetition_book, segment_book,
 )
 from lookvoice.books import Book
 from lookvoice.errors import BadAhead, NoMove
@@ -15,7 +15,7 @@ from lookvoice.voices import behaviour, silent_voice
 from samples import error_of, everything_of
 
 NEVER = [repetition_book("abc"), repetition_book("abcd"), last_note_book("ab"), last_note_book("abc"),
-         segment_book(0), segment_book(1)]
+         changing_book(), segment_book(0), segment_book(1)]
 AHEADS = [0, 1, 2, 3, 5, 17, 60]
 
 
@@ -96,6 +96,7 @@ def chance_play(source, book, giver, ahead):
 class RingBlocks(unittest.TestCase):
     def expect_rings(self, book):
         checked = Checked(book)
+        self.assertEqual(set(checked.moves), set(checked.coming))
         self.assertIs(checked.blocks.__class__, list)
         self.assertIs(checked.moves.__class__, dict)
         self.assertIn(checked.rings.first, range(len(checked.blocks)))
@@ -126,6 +127,10 @@ class RingBlocks(unittest.TestCase):
         checked = self.expect_rings(segment_book(1))
         # Each stretch lets one mistake through, and the third one is the first that cannot be answered.
         self.assertGreaterEqual(max(len(chain) for chain in checked.chains), 3)
+
+    def test_a_block_with_a_tail(self):
+        checked = self.expect_rings(changing_book())
+        self.assertGreater(max(len(tail) for head, ring, tail in checked.blocks), 0)
 
     def test_books_by_chance(self):
         many = {}
