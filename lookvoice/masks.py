@@ -18,10 +18,10 @@ class Masks:
         self.places = places
         self.given = places.given
         self.singles = [1 << place for place in range(places.size)]
-        self.everywhere = mask_of(range(places.size))
+        self.everywhere = mask_of(list(range(places.size)))
         self.closed = mask_of([place for place in range(places.size) if places.is_closed([place])])
         self.rows = {note: [mask_of(row) for row in places.steps[note].rows] for note in places.given}
-        self._over = {note: mask_of(places.steps[note].reach(range(places.size))) for note in places.given}
+        self._over = {note: mask_of(places.steps[note].reach(list(range(places.size)))) for note in places.given}
         self._after = {note: {} for note in places.given}
         self._before = {note: {} for note in places.given}
 

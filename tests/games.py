@@ -78,7 +78,8 @@ def segment_book(mistakes):
 
     opens = [pair for pair in pairs if pair[1][-1] == "0"]
     closes = [pair for pair in pairs if wrong_after(pair) <= mistakes]
-    return book_of("abc", pairs, opens, closes, [(one, two) for one in pairs for two in pairs if may_follow(one, two)])
+    steps = [(one, two) for one in pairs for two in pairs if may_follow(one, two)]
+    return book_of("abc", pairs, opens, closes, steps)
 
 
 def named_books():
@@ -86,7 +87,8 @@ def named_books():
     return [
         Book([]), full_book("a", "x"), full_book("ab", "xy"), next_note_book("ab"), next_note_book("abc"),
         second_next_book(), repetition_book("ab"), repetition_book("abc"), last_note_book("a"), last_note_book("ab"),
-        last_note_book("abc"), changing_book(), countdown_book(2), countdown_book(3), distant_book(), segment_book(0), segment_book(1),
+        last_note_book("abc"), changing_book(), countdown_book(2), countdown_book(3), distant_book(), segment_book(0),
+        segment_book(1),
     ]
 
 

@@ -15,6 +15,16 @@ from lookvoice import (
 FOLDER = pathlib.Path(lookvoice.__file__).parent
 FILES = sorted(path for path in FOLDER.rglob("*") if path.is_file() and "__pycache__" not in path.parts)
 LIBRARY = ("heapq", "math", "itertools", "collections")
+ITERATING = ("list", "tuple", "dict", "sorted", "sum", "any", "all", "enumerate", "zip")
+METHODS = [
+    "append", "clear", "copy", "count", "extend", "find", "get", "index", "insert", "isalnum", "isascii", "items",
+    "join", "keys", "pop", "remove", "reverse", "setdefault", "split", "startswith", "strip", "update", "values",
+    "bit_length",
+]
+FUNCTIONS_OF_THE_LANGUAGE = [
+    "len", "range", "enumerate", "zip", "min", "max", "sum", "abs", "sorted", "reversed", "int", "str", "bool", "list",
+    "tuple", "dict", "isinstance", "repr", "any", "all", "super",
+]
 BARRED_NAMES = ("open", "print", "input", "eval", "exec", "compile", "globals", "vars", "id", "hash", "type")
 BARRED_NODES = (ast.AsyncFunctionDef, ast.AsyncFor, ast.AsyncWith, ast.Await, ast.Global, ast.Div, ast.Import)
 
@@ -75,6 +85,40 @@ class Language(unittest.TestCase):
             if getattr(node.func, "id", None) == "sorted":
                 self.assertIsInstance(node.args[0], ast.ListComp)
                 self.assertEqual(ast.unparse(node.args[0].elt.func), "int")
+
+    def test_what_is_iterated_at_once(self):
+        iterated = []
+        for node in nodes((ast.For, ast.comprehension)):
+            iterated.append(ast.unparse(node.iter))
+        for node in nodes(ast.Call):
+            if getattr(node.func, "id", None) in ITERATING:
+                iterated.extend(ast.unparse(part) for part in node.args[:1])
+        for node in nodes(ast.Call):
+            name = getattr(node.func, "id", getattr(node.func, "attr", None))
+            if name in ("range", "zip", "enumerate", "reversed", "items", "keys", "values"):
+                self.assertIn(ast.unparse(node), iterated)
+
+    def test_methods_of_builtin_values(self):
+        own = [node.name for node in nodes(ast.FunctionDef)]
+        for node in nodes(ast.Call):
+            if isinstance(node.func, ast.Attribute):
+                self.assertIn(node.func.attr, METHODS + own + ["__init__"])
+
+    def test_functions_of_the_language(self):
+        for path in FILES:
+            tree = ast.parse(path.read_text(encoding="utf-8"))
+            own = [node.name for node in ast.walk(tree) if isinstance(node, (ast.FunctionDef, ast.ClassDef))]
+            own += [alias.name for node in tree.body if isinstance(node, ast.ImportFrom) for alias in node.names]
+            own += [node.arg for node in ast.walk(tree) if isinstance(node, ast.arg)]
+            for node in ast.walk(tree):
+                if isinstance(node, ast.Call) and isinstance(node.func, ast.Name):
+                    self.assertIn(node.func.id, FUNCTIONS_OF_THE_LANGUAGE + own, path)
+
+    def test_is_only_with_none(self):
+        for node in nodes(ast.Compare):
+            for sign, part in zip(node.ops, node.comparators):
+                if isinstance(sign, (ast.Is, ast.IsNot)):
+                    self.assertIn(ast.unparse(part), ("None", "True", "False"))
 
     def test_least_and_greatest_of_plain_numbers(self):
         for node in nodes(ast.Call):

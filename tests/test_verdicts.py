@@ -28,9 +28,10 @@ def giver_facts(giver):
     return (giver.ahead, giver.opening, giver.notes)
 
 
-def answerer_facts(answerer):
-    """All answers of a block answerer for blocks of one note or more, as far as they are few."""
-    return answerer.length, answerer.ahead
+def answerer_facts(book, answerer):
+    """What a block answerer shows of itself."""
+    blocks = [[note] * answerer.length for note in book.given]
+    return answerer.length, answerer.ahead, [answerer.safe(block) for block in blocks]
 
 
 class Judged(unittest.TestCase):
@@ -70,7 +71,7 @@ class Judged(unittest.TestCase):
         self.assertEqual(verdict.kind, "beyond")
         self.assertIs(verdict.answerer.__class__, BlockAnswerer)
         self.assertGreater(verdict.answerer.ahead, most)
-        self.assertEqual(answerer_facts(verdict.answerer), answerer_facts(outlook(book).answerer))
+        self.assertEqual(answerer_facts(book, verdict.answerer), answerer_facts(book, outlook(book).answerer))
         self.assertIs(verdict.giver.__class__, TableGiver)
         self.assertEqual(giver_facts(verdict.giver), giver_facts(settle(book, ahead=most).giver))
         self.expect_none(verdict, "ahead", "voice", "rings")
